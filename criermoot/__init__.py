@@ -1,0 +1,1 @@
+"""Criermoot: notices that go from site to site over breaking lines."""

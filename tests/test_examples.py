@@ -1,0 +1,42 @@
+"""The examples of the document that use what has landed, as they stand there."""
+
+import doctest
+import unittest
+
+EXAMPLES = """
+>>> from criermoot.headrows import fold
+>>> fold("Subject: one two three four", 20)
+('Subject: one two', ' three four')
+>>> from criermoot.marks import mark_of
+>>> mark_of(("",))
+927
+>>> from criermoot.codings import coded
+>>> coded(("data", "runs", (5, 5, 5, 16)), 20)
+('3x05 1x10',)
+>>> from criermoot.notices import write_notice, size_of
+>>> notice = ("notice", ("mill", 5), "ann@mill", 12, ("town.fish", "town.sale"), "Fresh today", (), ("post",), (), ("text", "plain", ("Come soon.", ".")))
+>>> size_of(notice)
+3
+>>> write_notice(notice, 20)[:4]
+('Id: 5@mill', 'From: ann@mill', 'Date: 12', 'Boards: town.fish')
+>>> from criermoot.patterns import lets, opposite
+>>> lets("town.*,!town.fish.*", "town.fish.sale")
+False
+>>> opposite("town.*,!town.fish")
+'*,!town.*,town.fish'
+>>> from criermoot.parting import compared_patterns
+>>> compared_patterns("a*", "a?*")
+('part', 'a')
+>>> from criermoot.atoms import atoms
+>>> atoms(("a*", "*.b"))
+(((0, 0), 'b'), ((0, 1), 'b.b'), ((1, 0), 'a'), ((1, 1), 'a.b'))
+"""
+
+
+class ExamplesTest(unittest.TestCase):
+    def test_examples(self):
+        examples = doctest.DocTestParser().get_doctest(EXAMPLES, {}, "examples", None, 0)
+        told = []
+        doctest.DocTestRunner(verbose=False).run(examples, out=told.append)
+        self.assertEqual(told, [])
+        self.assertEqual(len(examples.examples), 17)
