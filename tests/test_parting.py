@@ -148,6 +148,17 @@ class JudgeTest(unittest.TestCase):
         self.assertIs(judge_spots("a**", "a*", spots + ((0, (((3,),), ((1, 2),))),)), False)
         self.assertIs(judge_spots("a**", "a*", spots + ((0, (((3,),), ((2,),))), (0, (((),), ((2,),))))), False)
 
+    def test_places_behind_stars(self):
+        """A spot that lacks nothing but a place behind a star is not taken."""
+        for pattern, other, further, wrong in (
+                ("a**", "a*", (((3,),), ((2,),)), (((1, 3),), ((1, 2),))),
+                ("**", "*", (((2,),), ((1,),)), (((0, 2),), ((0, 1),))),
+                ("a*", "a*", (((),), ((),)), (((1,),), ((1,),)))):
+            spots = compared_patterns(pattern, other)[1] + ((0, further), (1, further))
+            self.assertIs(judge_spots(pattern, other, spots), True)
+            for is_open in (0, 1):
+                self.assertIs(judge_spots(pattern, other, spots + ((is_open, wrong),)), False)
+
     def test_not_for_other_patterns(self):
         spots = compared_patterns("a*", "a*,a")[1]
         self.assertIs(judge_spots("a*,a", "a*", spots), False)
