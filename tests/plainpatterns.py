@@ -1,5 +1,6 @@
 """Patterns, globs and spots as the document defines them, without any haste."""
 
+import functools
 import re
 
 LETTERS = "abcdefghijklmnopqrstuvwxyz"
@@ -36,6 +37,7 @@ def items_of(pattern):
     return [(0, item[1:]) if item[0] == "!" else (1, item) for item in pattern.split(",")]
 
 
+@functools.cache
 def lets(pattern, board):
     told = False
     for sign, glob in items_of(pattern):

@@ -30,6 +30,16 @@ False
 >>> from criermoot.atoms import atoms
 >>> atoms(("a*", "*.b"))
 (((0, 0), 'b'), ((0, 1), 'b.b'), ((1, 0), 'a'), ((1, 1), 'a.b'))
+>>> from criermoot.rulewriting import write_policy
+>>> write_policy(((("and", ("or", ("answer",), ("word", "fish")), ("not", ("from", "*", "mill"))), ("refuse", "fish")),))
+('when ( answer or word fish ) and not from *@mill : refuse fish',)
+>>> from criermoot.blocks import value_text
+>>> value_text((1, "it's", None, ()))
+"(1 'it''s' N ())"
+>>> from criermoot.journal import added, content, written
+>>> disk = written(((), ()), added(((), ()), 7), 4)
+>>> content(disk)
+(7,)
 """
 
 
@@ -39,4 +49,4 @@ class ExamplesTest(unittest.TestCase):
         told = []
         doctest.DocTestRunner(verbose=False).run(examples, out=told.append)
         self.assertEqual(told, [])
-        self.assertEqual(len(examples.examples), 17)
+        self.assertEqual(len(examples.examples), 24)

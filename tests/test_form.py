@@ -9,7 +9,7 @@ PACKAGE = pathlib.Path(__file__).resolve().parent.parent / "criermoot"
 FILES = sorted(PACKAGE.rglob("*.py"))
 CALLED = {
     "len", "range", "enumerate", "zip", "min", "max", "sum", "abs", "sorted", "reversed", "int", "str", "bool", "list",
-    "tuple", "dict", "set", "isinstance", "ord", "any", "all", "divmod", "ValueError",
+    "tuple", "dict", "set", "isinstance", "ord", "any", "all", "divmod", "ValueError", "property",
 }
 FREE = {"id", "object", "format", "_"}
 BARRED = {
@@ -35,6 +35,11 @@ def bound(function):
                     if isinstance(node, ast.Name) and isinstance(node.ctx, ast.Store)]
 
 
+def is_for_property(decorator, function):
+    """Whether a decorator makes a property of a function, or the setter of the property of its name."""
+    return ast.unparse(decorator) in ("property", function.name + ".setter")
+
+
 class FormTest(unittest.TestCase):
     def test_files(self):
         self.assertTrue((PACKAGE / "__init__.py").exists())
@@ -51,7 +56,7 @@ class FormTest(unittest.TestCase):
         for path, tree in trees():
             for function in functions(tree):
                 self.assertLessEqual(function.end_lineno - function.lineno + 1, 40, (path, function.name))
-                self.assertEqual(function.decorator_list, [], (path, function.name))
+                self.assertTrue(all(is_for_property(one, function) for one in function.decorator_list), (path, function.name))
                 self.assertIsNotNone(ast.get_docstring(function) or function.name == "__init__", (path, function.name))
 
     def test_imports(self):
@@ -72,6 +77,21 @@ class FormTest(unittest.TestCase):
             last = [module for module, others in needs.items() if not any(other in needs for other in others)]
             self.assertTrue(last, "imports in a ring")
             needs = {module: others for module, others in needs.items() if module not in last}
+
+    def test_properties(self):
+        """The name of a property is that of no attribute and of no other method."""
+        names, attributes, methods = set(), set(), []
+        for _, tree in trees():
+            for node in ast.walk(tree):
+                if isinstance(node, ast.ClassDef):
+                    told = [one for one in node.body if isinstance(one, ast.FunctionDef)]
+                    names.update(one.name for one in told if one.decorator_list)
+                    methods.extend(one.name for one in told if not one.decorator_list)
+                if isinstance(node, ast.Attribute) and isinstance(node.ctx, ast.Store):
+                    attributes.add(node.attr)
+        self.assertEqual(names, {"disk", "done", "state"})
+        self.assertFalse(names & (attributes | set(methods)))
+        self.assertFalse(attributes & set(methods))
 
     def test_names(self):
         for path, tree in trees():

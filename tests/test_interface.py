@@ -4,8 +4,13 @@ import importlib
 import inspect
 import unittest
 
-from criermoot import atoms, bodies, books, codings, globs, headrows, leaning, names, notices, parting, patterns
-from tests.bookcase import BOOK
+from criermoot import (
+    allreach, apart, atoms, blocks, bodies, books, cases, codings, comparing, feeds, globs, headrows, journal, judging,
+    leaning, names, notices, parting, patterns, phrases, reach, rights, rulereading, rulewriting, ways)
+from criermoot.giver import Giver
+from criermoot.ledger import Ledger
+from criermoot.taker import Taker
+from tests.bookcase import BOOK, POLICY
 from tests.samples import TEXT, notice
 
 FUNCTIONS = {
@@ -26,8 +31,33 @@ FUNCTIONS = {
               "carries(book, name, boards)", "steward_of(book, board)", "needed_seals(book, boards)",
               "policy_of(book, address)"),
     "feeds": ("passes(feed, boards, size, hops)",),
+    "reach": ("reach(book, kind)", "hops_of(book, kind)"),
+    "ways": ("least_way(book, kind, site)", "judge_way(book, kind, site, way)", "judge_labels(book, kind, labels)"),
+    "apart": ("spare(book, kind, site)", "judge_spare(book, kind, site, paper)"),
+    "allreach": ("table_of(book)", "looked_up(book, table, kind)"),
+    "rulereading": ("read_policy(rows)",),
+    "rulewriting": ("write_policy(policy)", "write_test(test)"),
     "judging": ("holds(test, notice)", "verdict(policy, notice)"),
+    "cases": ("possible(facts)", "comes_to(policy, facts)", "judge_tree(policy, other, tree)"),
+    "comparing": ("compared_policies(policy, other)", "dead_rules(policy)", "without_dead(policy)"),
+    "blocks": ("value_text(value)", "value_of(text)", "pieces(value)", "deed_blocks(generation, deed, value)"),
+    "journal": ("content(disk)", "added(disk, value)", "renewed(disk, values)", "written(disk, writes, count, torn=0)"),
+    "phrases": ("read_word(word)", "write_word(parts)", "stuffed(row)", "unstuffed(word)"),
+    "rights": ("has_right(book, notice, other)", "hidden(book, notices)"),
 }
+CLASSES = {
+    "ledger": ("Ledger", ("__init__(self, disk=((), ()))", "add(self, value)", "renew(self, values)",
+                          "trip(self, count, torn)", "contents(self)", "trial(self)", "tried(self, value, count, torn=0)"),
+               ("disk",)),
+    "giver": ("Giver", ("__init__(self, giver, taker, items, clears=(), window=4)", "next_word(self)", "hear(self, word)",
+                        "open_items(self)", "resume(self, state)"), ("done", "state")),
+    "taker": ("Taker", ("__init__(self, giver, taker)", "hear(self, word, known, kept, clock, window)",
+                        "resume(self, state)"), ("done", "state")),
+}
+FACTS = ((("over", 60), 1), (("word", "fish"), 1), (("answer",), 1), (("board", "town.*"), 1), (("from", "*", "mill"), 0))
+ITEM = ("notice", "5@mill", 1, 12, ("a", ".b"))
+KIND = ("kind", "hill", ("town.fish",), 5)
+DISK = journal.written(((), ()), journal.added(((), ()), ("a", None)), 9)
 
 
 def is_value(told):
@@ -49,6 +79,7 @@ class InterfaceTest(unittest.TestCase):
 
     def test_values(self):
         post = notice()
+        strike = notice(id=("mill", 9), kind=("strike", post[1]))
         rows = notices.write_notice(post)
         asked = (
             lambda: names.id_of("5@mill"), lambda: names.split_address("ann@mill"), lambda: names.words_of("a b"),
@@ -61,9 +92,64 @@ class InterfaceTest(unittest.TestCase):
             lambda: parting.compared_patterns("a,a", "a"), lambda: parting.compared_patterns("a", "b"),
             lambda: atoms.atoms(("a", "b")), lambda: leaning.needless("a,a"), lambda: books.wrong_part(BOOK),
             lambda: books.neighbours(BOOK, "hill"), lambda: books.site_of(BOOK, "hill"),
-            lambda: books.needed_seals(BOOK, ("town.fish", "town.sale")), lambda: books.policy_of(BOOK, "ann@mill"))
+            lambda: books.needed_seals(BOOK, ("town.fish", "town.sale")), lambda: books.policy_of(BOOK, "ann@mill"),
+            lambda: reach.reach(BOOK, KIND), lambda: reach.hops_of(BOOK, KIND), lambda: ways.least_way(BOOK, KIND, "mill"),
+            lambda: apart.spare(BOOK, KIND, "mill"), lambda: allreach.table_of(BOOK),
+            lambda: allreach.looked_up(BOOK, allreach.table_of(BOOK), KIND), lambda: rulewriting.write_policy(POLICY),
+            lambda: rulereading.read_policy(rulewriting.write_policy(POLICY)), lambda: cases.possible(FACTS),
+            lambda: cases.comes_to(POLICY, FACTS), lambda: comparing.compared_policies(POLICY, POLICY),
+            lambda: comparing.compared_policies(POLICY, ()), lambda: comparing.dead_rules(POLICY * 2),
+            lambda: comparing.without_dead(POLICY * 2), lambda: blocks.value_of("(1 'a' N ())"), lambda: blocks.pieces((1, 2)),
+            lambda: blocks.deed_blocks(1, 2, "x" * 50), lambda: journal.content(DISK), lambda: journal.added(DISK, 3),
+            lambda: journal.renewed(DISK, (3,)), lambda: journal.written(DISK, journal.added(DISK, 3), 1, 1),
+            lambda: phrases.read_word("offer 5@mill 1 12"), lambda: rights.hidden(BOOK, (post, strike)))
         first = [ask() for ask in asked]
         self.assertTrue(all(is_value(told) for told in first))
         for _ in range(2):
             self.assertEqual([ask() for ask in reversed(asked)][::-1], first)
         self.assertEqual(post, notice())
+
+    def test_bools(self):
+        """What tells whether something is so tells True or False themselves."""
+        strike = notice(id=("mill", 9), kind=("strike", ("mill", 5)))
+        asked = (
+            lambda one: ways.judge_way(BOOK, KIND, "mill", ("hill", "mill") if one else ()),
+            lambda one: ways.judge_labels(BOOK, KIND, (0, 1, None) if one else (0, None, None)),
+            lambda one: apart.judge_spare(BOOK, KIND, "mill", ("spare", (("hill", "mill"),), (("hill", "mill"),) * one)),
+            lambda one: cases.judge_tree((), (), ("same", ("pass",) if one else ("hold",))),
+            lambda one: rights.has_right(BOOK, strike, notice(id=("mill", 5 if one else 6))),
+            lambda one: feeds.passes(BOOK[5][0], ("town.fish",), 5, 0 if one else 9),
+            lambda one: judging.holds(("over", 1 if one else 60), notice()))
+        for ask in asked:
+            for one in (1, 0, 1):
+                self.assertIs(ask(one), one == 1)
+
+    def test_classes(self):
+        for module, (name, methods, properties) in CLASSES.items():
+            told = getattr(importlib.import_module("criermoot." + module), name)
+            self.assertEqual(told.__module__, "criermoot." + module)
+            for one in methods:
+                function = vars(told)[one.partition("(")[0]]
+                self.assertEqual(function.__name__ + str(inspect.signature(function)), one)
+            for one in properties:
+                self.assertIsInstance(vars(told)[one], property)
+                self.assertIs(vars(told)[one].fset is not None, one == "disk")
+
+    def test_objects(self):
+        """What objects tell are values that stay as they are, and equal objects tell equal ones."""
+        def told():
+            ledger, giver, taker = Ledger(DISK), Giver("hill", "mill", (ITEM,), ("x",)), Taker("hill", "mill")
+            found = [ledger.disk, ledger.contents(), giver.state, taker.state, giver.open_items()]
+            for word in ("open hill mill", "offer 5@mill 1 12"):
+                assert giver.next_word() == word
+                found.append(taker.hear(word, {}, (), 0, 50))
+                giver.hear(found[-1][0][0])
+                found += [giver.state, taker.state, giver.open_items()]
+            ledger.add(giver.state)
+            return found + [ledger.disk, ledger.contents(), ledger.tried(taker.state, 99)]
+
+        first = told()
+        kept = repr(first)
+        self.assertTrue(all(is_value(one) for one in first))
+        self.assertEqual(told(), first)
+        self.assertEqual(repr(first), kept)
