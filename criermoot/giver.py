@@ -61,6 +61,10 @@ class Giver:
         """The keys of the open items, in the order of their offers."""
         return tuple([self._items[number][1] for number in self.open_numbers()])
 
+    def is_amid_body(self):
+        """Whether a body has begun whose end was not said."""
+        return self._body is not None
+
     def next_word(self):
         """The next word, which is said by this, None if there is none."""
         if self._begin == UNSAID:
@@ -68,7 +72,7 @@ class Giver:
             return write_word(("open",) + self._names)
         if self._begin == SAID:
             return None
-        if self._body is not None:
+        if self.is_amid_body():
             return self.say_row()
         if self._wants:
             return self.say_body()

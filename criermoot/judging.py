@@ -1,5 +1,6 @@
 """Judging a notice by a policy."""
 
+from criermoot.books import policy_of
 from criermoot.names import split_address, words_of
 from criermoot.notices import size_of
 from criermoot.patterns import lets_one
@@ -49,3 +50,8 @@ def verdict(policy, notice):
         if holds(rule[0], notice):
             return rule[1]
     return ("pass",)
+
+
+def verdict_at(book, address, notice):
+    """The verdict of the policy of a steward for the notice."""
+    return verdict(policy_of(book, address), notice)

@@ -1,7 +1,10 @@
-"""The examples of the document that use what has landed, as they stand there."""
+"""The examples of the document, as they stand there."""
 
 import doctest
+import pathlib
 import unittest
+
+README = pathlib.Path(__file__).resolve().parent.parent / "README.md"
 
 EXAMPLES = """
 >>> from criermoot.headrows import fold
@@ -40,13 +43,36 @@ False
 >>> disk = written(((), ()), added(((), ()), 7), 4)
 >>> content(disk)
 (7,)
+>>> from criermoot.ranges import read_marks, joined_marks, write_marks
+>>> write_marks(joined_marks(read_marks("1-3,7"), read_marks("4,9")))
+'1-4,7,9'
+>>> from criermoot.world import World
+>>> book = ("book", 50, (1, 8), (("site", "hill", 0, 60, 90, "*"), ("site", "mill", 3, 60, 90, "*")), (("hill", "mill"),), (("feed", "hill", "mill", "town.*", 3, 9),), (), ())
+>>> world = World(book)
+>>> world.do(("post", "ann@hill", ("town.fish",), "Fresh", (), ("post",), ("text", "plain", ("Come soon.",))))
+('hill', 1)
+>>> world.do(("round",))
+True
+>>> world.taken("mill")
+((('hill', 1), 1),)
+>>> world.shown("mill", "town.fish")
+((1, ('hill', 1)),)
+>>> from criermoot.memory import least_memory
+>>> (least_memory(book, "hill"), least_memory(book, "mill"))
+(0, 47)
 """
 
 
 class ExamplesTest(unittest.TestCase):
-    def test_examples(self):
-        examples = doctest.DocTestParser().get_doctest(EXAMPLES, {}, "examples", None, 0)
+    def check(self, text, many):
+        examples = doctest.DocTestParser().get_doctest(text, {}, "examples", None, 0)
         told = []
         doctest.DocTestRunner(verbose=False).run(examples, out=told.append)
         self.assertEqual(told, [])
-        self.assertEqual(len(examples.examples), 24)
+        self.assertEqual(len(examples.examples), many)
+
+    def test_examples(self):
+        self.check(EXAMPLES, 35)
+
+    def test_examples_of_the_readme(self):
+        self.check(README.read_text().split("```")[1], 32)

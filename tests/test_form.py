@@ -9,7 +9,7 @@ PACKAGE = pathlib.Path(__file__).resolve().parent.parent / "criermoot"
 FILES = sorted(PACKAGE.rglob("*.py"))
 CALLED = {
     "len", "range", "enumerate", "zip", "min", "max", "sum", "abs", "sorted", "reversed", "int", "str", "bool", "list",
-    "tuple", "dict", "set", "isinstance", "ord", "any", "all", "divmod", "ValueError", "property",
+    "tuple", "dict", "set", "isinstance", "ord", "any", "all", "divmod", "ValueError", "property", "classmethod",
 }
 FREE = {"id", "object", "format", "_"}
 BARRED = {
@@ -35,9 +35,13 @@ def bound(function):
                     if isinstance(node, ast.Name) and isinstance(node.ctx, ast.Store)]
 
 
-def is_for_property(decorator, function):
-    """Whether a decorator makes a property of a function, or the setter of the property of its name."""
-    return ast.unparse(decorator) in ("property", function.name + ".setter")
+def is_decorator(decorator, function):
+    """Whether a decorator makes a property of a function, the setter of the property of its name, or a class method."""
+    return ast.unparse(decorator) in ("property", function.name + ".setter", "classmethod")
+
+
+def is_generator(function):
+    return any(isinstance(node, (ast.Yield, ast.YieldFrom)) for node in ast.walk(function))
 
 
 class FormTest(unittest.TestCase):
@@ -56,7 +60,7 @@ class FormTest(unittest.TestCase):
         for path, tree in trees():
             for function in functions(tree):
                 self.assertLessEqual(function.end_lineno - function.lineno + 1, 40, (path, function.name))
-                self.assertTrue(all(is_for_property(one, function) for one in function.decorator_list), (path, function.name))
+                self.assertTrue(all(is_decorator(one, function) for one in function.decorator_list), (path, function.name))
                 self.assertIsNotNone(ast.get_docstring(function) or function.name == "__init__", (path, function.name))
 
     def test_imports(self):
@@ -80,18 +84,46 @@ class FormTest(unittest.TestCase):
 
     def test_properties(self):
         """The name of a property is that of no attribute and of no other method."""
-        names, attributes, methods = set(), set(), []
+        names, attributes, methods, of_class = set(), set(), [], set()
         for _, tree in trees():
             for node in ast.walk(tree):
                 if isinstance(node, ast.ClassDef):
                     told = [one for one in node.body if isinstance(one, ast.FunctionDef)]
-                    names.update(one.name for one in told if one.decorator_list)
+                    of_class.update(one.name for one in told if "classmethod" in map(ast.unparse, one.decorator_list))
+                    names.update(one.name for one in told if one.decorator_list and one.name not in of_class)
                     methods.extend(one.name for one in told if not one.decorator_list)
                 if isinstance(node, ast.Attribute) and isinstance(node.ctx, ast.Store):
                     attributes.add(node.attr)
-        self.assertEqual(names, {"disk", "done", "state"})
-        self.assertFalse(names & (attributes | set(methods)))
+        self.assertEqual(names, {"disk", "done", "state", "last", "stamp", "view", "time"})
+        self.assertEqual(of_class, {"woken"})
+        self.assertFalse((names | of_class) & (attributes | set(methods)))
         self.assertFalse(attributes & set(methods))
+
+    def test_generators(self):
+        """No other function has the name of a generator, which the package itself does not use as a value."""
+        told = [(path, function) for path, tree in trees() for function in functions(tree)]
+        names = [function.name for _, function in told if is_generator(function)]
+        self.assertEqual(sorted(names), ["play", "walk"])
+        self.assertEqual(len([function for _, function in told if function.name in names]), 2)
+        for path, tree in trees():
+            for node in ast.walk(tree):
+                if isinstance(node, ast.Call) and isinstance(node.func, (ast.Name, ast.Attribute)):
+                    name = node.func.id if isinstance(node.func, ast.Name) else node.func.attr
+                    self.assertNotIn(name, names, (path, node.lineno))
+
+    def test_loops_leave_what_they_go_over(self):
+        """Nothing that a loop goes over is changed in it by its name."""
+        changing = {"append", "extend", "pop", "insert", "remove", "clear", "update", "setdefault", "reverse"}
+        for path, tree in trees():
+            for loop in ast.walk(tree):
+                if not isinstance(loop, ast.For):
+                    continue
+                over = {ast.unparse(node) for node in ast.walk(loop.iter) if isinstance(node, (ast.Name, ast.Attribute, ast.Subscript))}
+                for node in [inner for statement in loop.body for inner in ast.walk(statement)]:
+                    if isinstance(node, ast.Call) and isinstance(node.func, ast.Attribute) and node.func.attr in changing:
+                        self.assertNotIn(ast.unparse(node.func.value), over, (path, node.lineno))
+                    if isinstance(node, (ast.Subscript, ast.Attribute)) and isinstance(node.ctx, (ast.Store, ast.Del)):
+                        self.assertNotIn(ast.unparse(node.value if isinstance(node, ast.Subscript) else node), over, (path, node.lineno))
 
     def test_names(self):
         for path, tree in trees():
@@ -119,7 +151,7 @@ class FormTest(unittest.TestCase):
         for path, tree in trees():
             for node in ast.walk(tree):
                 if isinstance(node, ast.Try):
-                    self.assertTrue(all(handler.type.id.startswith("Bad") for handler in node.handlers), path)
+                    self.assertTrue(all(handler.type.id.startswith("Bad") or handler.type.id == "Fallen" for handler in node.handlers), path)
                     continue
                 self.assertNotIsInstance(node, BARRED_NODES, path)
                 if isinstance(node, ast.Constant):

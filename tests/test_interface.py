@@ -44,16 +44,51 @@ FUNCTIONS = {
     "journal": ("content(disk)", "added(disk, value)", "renewed(disk, values)", "written(disk, writes, count, torn=0)"),
     "phrases": ("read_word(word)", "write_word(parts)", "stuffed(row)", "unstuffed(word)"),
     "rights": ("has_right(book, notice, other)", "hidden(book, notices)"),
+    "views": ("shown_of(book, site, notices, clock, board)",),
+    "routes": ("distance(book, site, other)", "next_site(book, here, goal)"),
+    "letters": ("submission(book, notice)", "note_to(notice, verdict)", "copy_to(notice, list_address, member)"),
+    "stewards": ("decided(book, letter, clock, verdict=None)", "plain_end(book, notice, hands=())"),
+    "lists": ("members_of(book, address)", "lists_for(book, site, boards)"),
+    "world": ("depth(book)",),
+    "threads": ("threads_of(notices)", "walk(threads)"),
+    "ranges": ("read_marks(text)", "write_marks(marks)", "joined_marks(marks, other)", "marks_without(marks, other)",
+               "marked(marks, number)", "next_new(marks, number)"),
+    "search": ("fits_query(query, notice)",),
+    "memory": ("senders_to(book, site)", "least_memory(book, site)", "enough(book)"),
+    "comeback": ("comeback(book, site)",),
+    "why": ("why(book, posts, clock, site, board, id)", "judge_why(book, posts, clock, site, board, id, paper)"),
 }
-CLASSES = {
-    "ledger": ("Ledger", ("__init__(self, disk=((), ()))", "add(self, value)", "renew(self, values)",
-                          "trip(self, count, torn)", "contents(self)", "trial(self)", "tried(self, value, count, torn=0)"),
-               ("disk",)),
-    "giver": ("Giver", ("__init__(self, giver, taker, items, clears=(), window=4)", "next_word(self)", "hear(self, word)",
+CLASSES = (
+    ("ledger", "Ledger", ("__init__(self, disk=((), ()))", "add(self, value)", "renew(self, values)", "trip(self, count, torn)",
+                          "contents(self)", "trial(self)", "tried(self, value, count, torn=0)"), ("disk",)),
+    ("giver", "Giver", ("__init__(self, giver, taker, items, clears=(), window=4)", "next_word(self)", "hear(self, word)",
                         "open_items(self)", "resume(self, state)"), ("done", "state")),
-    "taker": ("Taker", ("__init__(self, giver, taker)", "hear(self, word, known, kept, clock, window)",
-                        "resume(self, state)"), ("done", "state")),
-}
+    ("taker", "Taker", ("__init__(self, giver, taker)", "hear(self, word, known, kept, clock, window)", "resume(self, state)"),
+     ("done", "state")),
+    ("views", "View", ("__init__(self, book, site)", "take(self, notice)", "shown(self, board, *, clock)"), ()),
+    ("lists", "ListDesk", ("__init__(self, book, site)", "take(self, notice)", "hear(self, letter)", "box(self, address)"), ()),
+    ("sites", "Site", (
+        "__init__(self, book, name)", "woken(book, name, disk, clock)",
+        "post(self, clock, person, boards, subject, refs, kind, body)", "take(self, clock, hops, notice)",
+        "near(self, clock, id, hops)", "keep(self, clock, neighbour, key, letter)", "cleared(self, neighbour, key)",
+        "settle(self, clock, neighbour, key, result, hops)", "decide(self, clock, address, id, verdict)", "tick(self, clock)",
+        "items_for(self, neighbour)", "clears_for(self, neighbour)", "known(self)", "kept_from(self, neighbour)",
+        "shown(self, clock, board)", "notice(self, id)", "box(self, address)", "told(self, address)", "held(self, address)",
+        "since(self, board, stamp)", "taken(self)", "twice(self)", "posted(self)", "renew(self)"), ()),
+    ("world", "World", (
+        "__init__(self, book)", "do(self, act)", "play(self, acts)", "clock(self, site)", "is_up(self, site)", "is_whole(self, a, b)",
+        "underway(self, giver, taker)", "taken(self, site)", "twice(self)", "posted(self)", "shown(self, site, board)",
+        "box(self, address)", "told(self, address)", "held(self, address)", "since(self, site, board, stamp)",
+        "bodies(self, giver, taker, key)", "cuts(self, giver, taker, key)", "rests(self)"), ("time",)),
+    ("plainworld", "PlainWorld", ("__init__(self, book, posts)", "taken(self, site)", "shown(self, site, board, clock)",
+                                  "box(self, address)"), ()),
+    ("threads", "Threads", ("__init__(self)", "put(self, notice)", "drop(self, id)", "whole(self)"), ()),
+    ("stories", "Story", ("__init__(self, limit)", "new(self, number, id)", "gone(self, number)", "since(self, stamp)", "pairs(self)"),
+     ("last",)),
+    ("stories", "Desk", ("__init__(self)", "hear(self, answer)"), ("stamp", "view")),
+    ("reader", "Reader", ("__init__(self)", "new(self, view)", "read(self, id)", "meet(self, other)", "ids(self)"), ()),
+    ("search", "Index", ("__init__(self)", "put(self, notice)", "drop(self, id)", "found(self, query)"), ()),
+)
 FACTS = ((("over", 60), 1), (("word", "fish"), 1), (("answer",), 1), (("board", "town.*"), 1), (("from", "*", "mill"), 0))
 ITEM = ("notice", "5@mill", 1, 12, ("a", ".b"))
 KIND = ("kind", "hill", ("town.fish",), 5)
@@ -125,11 +160,13 @@ class InterfaceTest(unittest.TestCase):
                 self.assertIs(ask(one), one == 1)
 
     def test_classes(self):
-        for module, (name, methods, properties) in CLASSES.items():
+        for module, name, methods, properties in CLASSES:
             told = getattr(importlib.import_module("criermoot." + module), name)
             self.assertEqual(told.__module__, "criermoot." + module)
             for one in methods:
                 function = vars(told)[one.partition("(")[0]]
+                if isinstance(function, classmethod):
+                    function = function.__get__(None, told)
                 self.assertEqual(function.__name__ + str(inspect.signature(function)), one)
             for one in properties:
                 self.assertIsInstance(vars(told)[one], property)
