@@ -184,6 +184,14 @@ class Machine:
             self.pass_words(direction)
         return talk.giving.done
 
+    def hold_round(self):
+        """Holds a talk in each direction in which one can begin; whether there was one."""
+        begun = False
+        for direction in self.directions:
+            if self.hold_talk(direction) is not None:
+                begun = True
+        return begun
+
     def pass_words(self, direction):
         """The giver says what it has to say, the taker hears it, and the giver hears the answers."""
         word = self.say_word(direction)

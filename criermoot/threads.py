@@ -20,7 +20,7 @@ def threads_of(notices):
     # A parent is earlier, so from the last notice on the threads below each one are whole when it is reached.
     below = {}
     tops = []
-    for notice in sorted(notices, key=lambda notice: (notice[3], notice[1]), reverse=True):
+    for notice in sorted(notices, key=lambda one: (one[3], one[1]), reverse=True):
         id = notice[1]
         parent = parent_of(notice, by_id)
         beside = tops if parent is None else below.setdefault(parent, [])

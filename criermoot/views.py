@@ -22,7 +22,7 @@ def may_show(entry, notice, clock, board):
 
 def in_order(notices):
     """The ids of some notices, in the order of dates and ids."""
-    return tuple([notice[1] for notice in sorted(notices, key=lambda notice: (notice[3], notice[1]))])
+    return tuple([notice[1] for notice in sorted(notices, key=lambda one: (one[3], one[1]))])
 
 
 def shown_of(book, site, notices, clock, board):

@@ -48,8 +48,7 @@ class World:
         if word in ("break", "mend"):
             return self.do_line(word, act[1], act[2])
         if word == "round":
-            held = [self._machine.hold_talk(direction) for direction in self._machine.directions]
-            return any([told is not None for told in held])
+            return self._machine.hold_round()
         if word == "tick":
             return self._machine.tick()
         return self.do_site(word, act[1], act[2:])
